@@ -1,0 +1,198 @@
+"""What the tests share: webs to test on, a slow second way to beat, and things of any kind."""
+
+import copy
+import random
+
+from giveback.webs import Web
+
+# Things that are handed in where anything may be.
+THINGS = [
+    None, True, False, 0, 1, -1, 7, 10 ** 999, "", "0", "all", "none", "a\nb", [], (), {}, [None], (None,), {"posts": [0]},
+    {0: 0}, [[]], ((),), ((), ()), [0], (0,), [0, 1], (0, 1), [True], (False,), [[0]], ((0,), (0,)), [(0, 1)], "01",
+    (0, "1"), [0, None], {1: (2, [3])}, ("none", (0,), (1,)), ([0, 0], [0, 0]),
+]
+
+
+def row_ties(order):
+    """The single ties of a row in this order."""
+    return [tie(one, other) for one, other in zip(order, order[1:])]
+
+
+def tie(one, other, there=1, back=1):
+    """A tie of two posts in any order; there leads from the one named first."""
+    return (one, other, there, back) if one < other else (other, one, back, there)
+
+
+def shape_ties(word, order, swap=False):
+    """The ties by which [30] describes a shape; swap turns its double or triple tie about."""
+    heavy = (lambda many: (many, 1)) if swap else (lambda many: (1, many))
+    size = len(order)
+    if word == "row":
+        return row_ties(order)
+    if word == "end":
+        return row_ties(order[:-1]) + [tie(order[-2], order[-1], *heavy(2))]
+    if word == "middle":
+        return [tie(order[0], order[1]), tie(order[1], order[2], *heavy(2)), tie(order[2], order[3])]
+    if word == "three":
+        return [tie(order[0], order[1], *heavy(3))]
+    if word == "fork":
+        return row_ties(order[:-1]) + [tie(order[-3], order[-1])]
+    assert word == "arms"
+    pairs = [(0, 1), (0, 2), (0, 4), (2, 3), (4, 5)] + [(k - 1, k) for k in range(6, size)]
+    return [tie(order[one], order[other]) for one, other in pairs]
+
+
+# All shapes, each with all its sizes up to twelve posts.
+SHAPES = (
+    [("row", size) for size in range(1, 13)] + [("end", size) for size in range(2, 13)] + [("middle", 4), ("three", 2)]
+    + [("fork", size) for size in range(4, 13)] + [("arms", size) for size in (6, 7, 8)]
+)
+
+
+def shape_webs(chance):
+    """(word, order, web) for each shape and size, posts numbered anyhow, double and triple ties either way."""
+    for word, size in SHAPES:
+        for swap in (False, True):
+            order = list(range(size))
+            chance.shuffle(order)
+            yield word, order, Web(size, shape_ties(word, order, swap))
+
+
+def waves_ties():
+    """(size, ties) of webs of one part, of the kind waves, of each sort that there is."""
+    found = [(2, [(0, 1, 2, 2)]), (2, [(0, 1, 1, 4)]), (2, [(0, 1, 4, 1)])]
+    found += [(size, row_ties(list(range(size))) + [tie(0, size - 1)]) for size in range(3, 13)]
+    ends = [[(1, 2)], [(2, 1)], None]
+    for size in range(3, 13):
+        for low in ends:
+            for high in ends:
+                found += two_ended(size, low, high)
+    for there, back in ((1, 2), (2, 1)):
+        found.append((5, [tie(0, 1), tie(1, 2), tie(2, 3, there, back), tie(3, 4)]))
+    for there, back in ((1, 3), (3, 1)):
+        found.append((3, [tie(0, 1), tie(1, 2, there, back)]))
+    for arms in ((2, 2, 2), (1, 3, 3), (1, 2, 5)):
+        found.append(star(arms))
+    return found
+
+
+def two_ended(size, low, high):
+    """A row with a double tie or a fork at each end, where so many posts make such a one."""
+    if size < 3 + (low is None) + (high is None):
+        return []
+    ties = []
+    first, last = 0, size - 1
+    for end, at in ((low, "low"), (high, "high")):
+        near, far, inward = (0, 1, 2) if at == "low" else (size - 1, size - 2, size - 3)
+        if end is None:
+            ties += [tie(near, inward), tie(far, inward)]
+            first, last = (2, last) if at == "low" else (first, size - 3)
+        else:
+            ties.append(tie(near, far, *end[0]))
+            first, last = (1, last) if at == "low" else (first, size - 2)
+    return [(size, ties + row_ties(list(range(first, last + 1))))]
+
+
+def star(arms):
+    """(size, ties) of post 0 with arms of so many posts, all single."""
+    ties = []
+    size = 1
+    for many in arms:
+        ties += row_ties([0] + list(range(size, size + many)))
+        size += many
+    return size, ties
+
+
+def none_ties():
+    """(size, ties) of webs of one part, of the kind none, some just beyond waves, some far."""
+    found = [star(arms) for arms in ((1, 2, 6), (1, 2, 8), (1, 3, 4), (2, 2, 3), (2, 2, 7), (1, 1, 1, 2), (1,) * 5)]
+    found += [(2, [(0, 1, 1, 5)]), (2, [(0, 1, 9, 9)]), (2, [(0, 1, 9, 1)]), (2, [(0, 1, 2, 3)])]
+    found += [(3, [(0, 1, 2, 1), (0, 2, 1, 1), (1, 2, 1, 1)]), (3, [(0, 1, 1, 3), (1, 2, 3, 1)])]
+    found += [(12, row_ties(list(range(12))) + [(0, 11, 1, 2)])]
+    found += [(12, [(k, k + 1, 9, 1) for k in range(11)])]
+    found += [(12, [(one, other, 9, 9) for other in range(12) for one in range(other)])]
+    return found
+
+
+def relabelled(size, ties, order):
+    """The web of these ties, post k being called order[k]."""
+    return Web(size, [tie(order[one], order[other], there, back) for one, other, there, back in ties])
+
+
+def shuffled(size, ties, chance):
+    """The web of these ties, posts numbered anyhow, ties in any order."""
+    order = list(range(size))
+    chance.shuffle(order)
+    ties = list(ties)
+    chance.shuffle(ties)
+    return relabelled(size, ties, order)
+
+
+def side_by_side(parts, chance):
+    """The web of several (size, ties), posts numbered anyhow."""
+    ties = []
+    size = 0
+    for many, own in parts:
+        ties += [(one + size, other + size, there, back) for one, other, there, back in own]
+        size += many
+    return shuffled(size, ties, chance)
+
+
+def random_web(chance, size, extra=2, most=9):
+    """A web of some ties, drawn."""
+    pairs = {tuple(sorted(chance.sample(range(size), 2))) for _ in range(chance.randint(0, size + extra))} if size > 1 else ()
+    return Web(size, [(one, other, chance.randint(1, most), chance.randint(1, most)) for one, other in sorted(pairs)])
+
+
+def drawn(chance, size, most):
+    """A standing drawn from numbers up to most either way."""
+    return tuple(tuple(chance.randint(-most, most) for _ in range(size)) for _ in range(2))
+
+
+def slow_beat(web, standing):
+    """A beat straight by the words of [13], without the program's own beats."""
+    old, now = standing
+    size = len(web)
+    new = []
+    for post in range(size):
+        got = 0
+        for other in range(size):
+            if other != post and now[other] > 0:
+                got += web.cords(other, post) * now[other]
+        new.append(got - old[post])
+    return now, tuple(new)
+
+
+def slow_run(web, standing, beats):
+    """The standing and those behind it, by slow beats."""
+    run = [standing]
+    for _ in range(beats):
+        run.append(slow_beat(web, run[-1]))
+    return run
+
+
+def whole_throughout(thing):
+    """Whether thing is a tuple of tuples of ints."""
+    return type(thing) is tuple and all(type(row) is tuple and all(type(n) is int for n in row) for row in thing)
+
+
+def refusal(case, kind, ask, *handed, **named):
+    """The refusal of this very class that a call makes; what was handed in is as it was."""
+    before = copy.deepcopy((handed, [thing for thing in named.values() if not isinstance(thing, Web)]))
+    with case.assertRaises(kind) as caught:
+        ask(*handed, **named)
+    case.assertIs(type(caught.exception), kind)
+    after = (handed, [thing for thing in named.values() if not isinstance(thing, Web)])
+    case.assertEqual(before, after)
+    return caught.exception
+
+
+def same(case, told, wanted):
+    """Equal and of the same kinds throughout, as True == 1 and such don't count."""
+    case.assertEqual(told, wanted)
+    case.assertEqual(repr(told), repr(wanted))
+
+
+def seeded(number):
+    """A source of draws that are the same each time."""
+    return random.Random(number)
