@@ -7,9 +7,9 @@ from giveback.webs import Web
 
 # Things that are handed in where anything may be.
 THINGS = [
-    None, True, False, 0, 1, -1, 7, 10 ** 999, "", "0", "all", "none", "a\nb", [], (), {}, [None], (None,), {"posts": [0]},
-    {0: 0}, [[]], ((),), ((), ()), [0], (0,), [0, 1], (0, 1), [True], (False,), [[0]], ((0,), (0,)), [(0, 1)], "01",
-    (0, "1"), [0, None], {1: (2, [3])}, ("none", (0,), (1,)), ([0, 0], [0, 0]),
+    None, True, False, 0, 1, -1, 7, 10 ** 999, "", "0", "all", "none", "a\nb", [], (), {}, [None], (None,),
+    {"posts": [0]}, {0: 0}, [[]], ((),), ((), ()), [0], (0,), [0, 1], (0, 1), [True], (False,), [[0]], ((0,), (0,)),
+    [(0, 1)], "01", (0, "1"), [0, None], {1: (2, [3])}, ("none", (0,), (1,)), ([0, 0], [0, 0]),
 ]
 
 
@@ -140,7 +140,8 @@ def side_by_side(parts, chance):
 
 def random_web(chance, size, extra=2, most=9):
     """A web of some ties, drawn."""
-    pairs = {tuple(sorted(chance.sample(range(size), 2))) for _ in range(chance.randint(0, size + extra))} if size > 1 else ()
+    many = chance.randint(0, max(0, size + extra)) if size > 1 else 0
+    pairs = {tuple(sorted(chance.sample(range(size), 2))) for _ in range(many)}
     return Web(size, [(one, other, chance.randint(1, most), chance.randint(1, most)) for one, other in sorted(pairs)])
 
 
@@ -151,23 +152,18 @@ def drawn(chance, size, most):
 
 def slow_beat(web, standing):
     """A beat straight by the words of [13], without the program's own beats."""
-    old, now = standing
-    size = len(web)
-    new = []
-    for post in range(size):
-        got = 0
-        for other in range(size):
-            if other != post and now[other] > 0:
-                got += web.cords(other, post) * now[other]
-        new.append(got - old[post])
-    return now, tuple(new)
+    return slow_run(web, standing, 1)[1]
 
 
 def slow_run(web, standing, beats):
     """The standing and those behind it, by slow beats."""
+    posts = range(len(web))
+    leads = [[(other, web.cords(other, post)) for other in posts if web.cords(other, post)] for post in posts]
     run = [standing]
     for _ in range(beats):
-        run.append(slow_beat(web, run[-1]))
+        old, now = run[-1]
+        new = [sum(many * now[other] for other, many in leads[post] if now[other] > 0) - old[post] for post in posts]
+        run.append((now, tuple(new)))
     return run
 
 
@@ -196,3 +192,61 @@ def same(case, told, wanted):
 def seeded(number):
     """A source of draws that are the same each time."""
     return random.Random(number)
+
+
+def gap(web, posts, weights):
+    """Out less twice the weight, of each of the posts, straight by the words of [20]."""
+    weight = dict(zip(posts, weights))
+    return [sum(web.cords(one, other) * weight[other] for other in posts) - 2 * weight[one] for one in posts]
+
+
+def shows(web, posts, word, weights):
+    """Whether weights show the word, straight by the words of [20]."""
+    tests = {"all": lambda n: n < 0, "waves": lambda n: n == 0, "none": lambda n: n > 0}
+    return all(tests[word](n) for n in gap(web, posts, weights))
+
+
+def slow_back(web, standing, most=130):
+    """The least number of beats behind which a standing is there again, None where it isn't within so many."""
+    run = slow_run(web, standing, most)
+    return next((beats for beats in range(1, most + 1) if run[beats] == standing), None)
+
+
+def resting(web):
+    """Numbers for a web of waves, one part, that stay as they are beat by beat."""
+    from giveback.kinds import kinds_of
+    turned = Web(len(web), [(one, other, back, there) for one, other, there, back in web.ties()])
+    return kinds_of(turned)[0][2]
+
+
+def just_owing(web, draw, most):
+    """A standing of which no half steps and that owes, though a little more everywhere and it would never."""
+    low, high = 0, 1
+    while slow_back(web, level(web, seeded(draw), most, high)) is None:
+        low, high = high, 2 * high
+    while high - low > 1:
+        middle = (low + high) // 2
+        owes = slow_back(web, level(web, seeded(draw), most, middle)) is None
+        low, high = (middle, high) if owes else (low, middle)
+    return level(web, seeded(draw), most, low)
+
+
+def level(web, chance, most, high):
+    """A standing of a web of waves, one part, of which no half steps: drawn numbers about a resting one."""
+    from giveback.kinds import kinds_of
+    from giveback.webs import lots_of
+    posts, _, weights = kinds_of(web)[0]
+    lots = lots_of(web, posts) or (posts, posts)
+    one, two = drawn(chance, len(web), most), drawn(chance, len(web), most)
+    rest = resting(web)
+    old, now = [[high * number for number in rest] for _ in range(2)]
+    for having, had in sorted({(tuple(lots[0]), tuple(lots[1])), (tuple(lots[1]), tuple(lots[0]))}):
+        step = [
+            sum(weights[k] * drawing[1][k] for k in having) - sum(weights[k] * drawing[0][k] for k in had)
+            for drawing in (one, two)
+        ]
+        for k in having:
+            now[k] += step[1] * one[1][k] - step[0] * two[1][k]
+        for k in had:
+            old[k] += step[1] * one[0][k] - step[0] * two[0][k]
+    return tuple(old), tuple(now)

@@ -21,8 +21,9 @@ class TestBeats(unittest.TestCase):
     def test_great_numbers_by_hand(self):
         web = Web(2, [(0, 1, 9, 4)])
         great = 10 ** 30
-        same(self, beat_on(web, ((-great, 1), (great, great - 1))), ((great, great - 1), (5 * great - 4, 9 * great - 1)))
-        same(self, beat_back(web, ((great, great - 1), (-great, 1))), ((5 * great - 4, 9 * great - 1), (great, great - 1)))
+        high, other = (great, great - 1), (5 * great - 4, 9 * great - 1)
+        same(self, beat_on(web, ((-great, 1), high)), (high, other))
+        same(self, beat_back(web, (high, (-great, 1))), (other, high))
 
     def test_beats_are_as_the_words_say(self):
         chance = seeded(4)

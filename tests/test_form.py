@@ -26,9 +26,17 @@ BARRED = (
 INTERFACE = {
     "webs": {"lots_of": "web posts", "need_standing": "web standing"},
     "beats": {"beat_on": "web standing", "beat_back": "web standing", "run_of": "web standing beats"},
+    "kinds": {"kinds_of": "web", "is_kind": "web posts word weights", "steps_of": "web posts weights standing"},
+    "returning": {"comes_back": "web standing", "never_paper": "web standing", "shows_never": "web standing thing"},
+    "shapes": {"shape_of": "web posts", "home_of": "web posts", "home_beats": "web"},
+    "peaks": {"most_ever": "web standing post", "first_above": "web standing post number"},
 }
 CLASSES = {
-    "webs": {"Web": {"__init__": "size ties", "ties": "", "cords": "one other", "parts": "", "__len__": "", "__eq__": "other"}},
+    "webs": {
+        "Web": {
+            "__init__": "size ties", "ties": "", "cords": "one other", "parts": "", "__len__": "", "__eq__": "other",
+        },
+    },
 }
 
 
@@ -106,7 +114,8 @@ class TestForm(unittest.TestCase):
 
     def test_calls(self):
         for path, tree in trees():
-            bound = names_of(tree) | {name.name for node in tree.body if isinstance(node, ast.ImportFrom) for name in node.names}
+            imports = [node for node in tree.body if isinstance(node, ast.ImportFrom)]
+            bound = names_of(tree) | {name.name for node in imports for name in node.names}
             methods = {method.name for method in functions(tree)}
             for node in ast.walk(tree):
                 if isinstance(node, ast.Call) and isinstance(node.func, ast.Name):

@@ -21,8 +21,8 @@ class TestStandings(unittest.TestCase):
         bad = [
             [good, good], ([1, 2], good), (good, [1, 2]), ([1, 2], [1, 2]), (good,), (good, good, good), (), good,
             ((1,), good), (good, (1,)), ((1, 2, 3), good), (good, (1, 2, 3)), ((), ()), (good, ()), (good, None),
-            ("ab", "ab"), (good, "ab"), (good, {0: 1, 1: 2}), (good, 12), {0: good, 1: good}, "", "ab", None, (good, good, ()),
-            (None, None), ((good, good), (good,)), (good, True),
+            ("ab", "ab"), (good, "ab"), (good, {0: 1, 1: 2}), (good, 12), {0: good, 1: good}, "", "ab", None,
+            (good, good, ()), (None, None), ((good, good), (good,)), (good, True),
         ]
         for thing in bad + THINGS:
             same(self, refusal(self, NoStanding, need_standing, Web(2, []), thing).part, "standing")
@@ -37,7 +37,8 @@ class TestStandings(unittest.TestCase):
                 same(self, refusal(self, NoStanding, need_standing, Web(2, []), standing).part, "numbers")
 
     def test_standing_ahead_of_numbers(self):
-        for standing in (((None,), (1, 2)), ((GREAT + 1, 0), (1,)), ((True, True), [0, 0]), ((None, None), (0, 0), (0, 0))):
+        both = [((None,), (1, 2)), ((GREAT + 1, 0), (1,)), ((True, True), [0, 0]), ((None, None), (0, 0), (0, 0))]
+        for standing in both:
             same(self, refusal(self, NoStanding, need_standing, Web(2, []), standing).part, "standing")
 
 
