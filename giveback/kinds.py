@@ -2,7 +2,7 @@
 
 from math import gcd
 
-from giveback.errors import NotAll
+from giveback.errors import NotAll, NotWaves
 from giveback.webs import lots_of, need_part, need_standing
 from giveback.wholes import is_whole
 
@@ -25,12 +25,18 @@ def is_kind(web, posts, word, weights):
 def steps_of(web, posts, weights, standing):
     """A list of the steps of a part's halves, half 0 first."""
     need_standing(web, standing)
-    lots = lots_of(web, posts)
+    halves = halves_of(web, posts)
     by_post = {post: weight for post, weight in zip(posts, weights)}
+    return [step_of(by_post, having, had, standing) for having, had in halves]
+
+
+def halves_of(web, posts):
+    """For each half of a part, half 0 first, the posts that have and those that had: (having, had)."""
+    lots = lots_of(web, posts)
     if lots is None:
-        return [step_of(by_post, posts, posts, standing)]
+        return [(posts, posts)]
     first, second = lots
-    return [step_of(by_post, first, second, standing), step_of(by_post, second, first, standing)]
+    return [(first, second), (second, first)]
 
 
 def step_of(by_post, having, had, standing):
@@ -55,6 +61,13 @@ def need_all_part(web, posts):
     word, _ = kind_of(web, posts)
     if word != "all":
         raise NotAll(tuple(posts))
+
+
+def need_waves(web, posts):
+    """Refuse a part that isn't of waves."""
+    word, _ = kind_of(web, posts)
+    if word != "waves":
+        raise NotWaves(tuple(posts))
 
 
 def are_weights(count, thing):

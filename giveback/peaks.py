@@ -3,7 +3,7 @@
 from giveback.beats import following
 from giveback.kinds import need_all
 from giveback.shapes import part_home_beats
-from giveback.webs import need_post, need_standing
+from giveback.webs import need_post, need_standing, part_around
 
 
 def most_ever(web, standing, post):
@@ -27,13 +27,7 @@ def all_it_has(web, standing, post):
     need_all(web)
     need_post(web, post)
     having = []
-    for _ in range(home_beats_around(web, post)):
+    for _ in range(part_home_beats(web, part_around(web, post))):
         having.append(standing[1][post])
         standing = following(web, standing)
     return having
-
-
-def home_beats_around(web, post):
-    """The home beats of the part of a post."""
-    parts = [part for part in web.parts() if post in part]
-    return part_home_beats(web, parts[0])

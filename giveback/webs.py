@@ -19,6 +19,7 @@ class Web:
             rows[one][other] = there
             rows[other][one] = back
         self._rows = tuple([tuple(row) for row in rows])
+        self._ties = tuple(sorted(ties))
 
     def __len__(self):
         return len(self._rows)
@@ -28,10 +29,7 @@ class Web:
 
     def ties(self):
         """A list of the ties (one, other, there, back), rising."""
-        rows = self._rows
-        size = len(rows)
-        pairs = [(one, other) for one in range(size) for other in range(one + 1, size)]
-        return [(one, other, rows[one][other], rows[other][one]) for one, other in pairs if rows[one][other] > 0]
+        return list(self._ties)
 
     def cords(self, one, other):
         """How many cords lead from one to other."""
@@ -60,6 +58,11 @@ class Web:
 def tied_to(web, post):
     """A list of the posts that are tied to this one, rising."""
     return [other for other in range(len(web)) if web.cords(post, other) > 0]
+
+
+def part_around(web, post):
+    """The part of a post, a list."""
+    return [part for part in web.parts() if post in part][0]
 
 
 def lots_of(web, posts):

@@ -250,3 +250,48 @@ def level(web, chance, most, high):
         for k in had:
             old[k] += step[1] * one[0][k] - step[0] * two[0][k]
     return tuple(old), tuple(now)
+
+
+def slow_behind(web, standing, beats):
+    """The standing behind so many beats gone one by one, below nought by beats back."""
+    if beats >= 0:
+        return slow_run(web, standing, beats)[-1]
+    return slow_run(web, standing[::-1], -beats)[-1][::-1]
+
+
+def nought(web):
+    """The standing of nought."""
+    return ((0,) * len(web), (0,) * len(web))
+
+
+def put_on(size, parts):
+    """A standing of so many posts of standings, each on its posts: a list of (posts, standing)."""
+    rows = [[0] * size, [0] * size]
+    for posts, standing in parts:
+        for row, numbers in zip(rows, standing):
+            for post, number in zip(posts, numbers):
+                row[post] = number
+    return tuple(tuple(row) for row in rows)
+
+
+def falling(web, high):
+    """A standing of a web of waves, one part, that falls beat by beat to nought, has it behind high beats, then owes."""
+    rest = resting(web)
+    return tuple((high + 1) * number for number in rest), tuple(high * number for number in rest)
+
+
+def slow_last(web, standing, turn):
+    """The last beat at which any post owes, beats gone one by one until all only rise from turn to turn of beats."""
+    last = None
+    beats = 0
+    ahead = None
+    while True:
+        run = slow_run(web, standing, turn)
+        owing = [beat for beat in range(turn) if min(run[beat][1]) < 0]
+        if owing:
+            last = beats + owing[-1]
+        elif ahead and all(low <= high for one, two in zip(ahead, run) for low, high in zip(one[1], two[1])):
+            return last
+        ahead = None if owing else run[:turn]
+        standing = run[turn]
+        beats += turn

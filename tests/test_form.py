@@ -30,6 +30,13 @@ INTERFACE = {
     "returning": {"comes_back": "web standing", "never_paper": "web standing", "shows_never": "web standing thing"},
     "shapes": {"shape_of": "web posts", "home_of": "web posts", "home_beats": "web"},
     "peaks": {"most_ever": "web standing post", "first_above": "web standing post number"},
+    "far": {"standing_behind": "web standing beats"},
+    "waves": {"wave_beats": "web posts", "last_owed": "web standing"},
+    "changes": {
+        "renamed": "web order", "beside": "one other", "without": "web pairs", "alone": "web posts",
+        "renamed_standing": "web standing order", "beside_standing": "one standing other more",
+        "alone_standing": "web standing posts",
+    },
 }
 CLASSES = {
     "webs": {
