@@ -7,7 +7,7 @@ stretches: many rounds alike at once, or one round in which a post owes, beat by
 from math import lcm
 
 from giveback.beats import gains, less, plus, run_on
-from giveback.kinds import halves_of, kind_of, kinds_of, need_waves
+from giveback.kinds import halves_of, kind_of, need_waves
 from giveback.returning import standing_on
 from giveback.webs import need_part, need_standing
 
@@ -26,10 +26,10 @@ def wave_beats(web, posts):
 def last_owed(web, standing):
     """The last beat, from 0 on, at which any post owes, None where none ever does."""
     need_standing(web, standing)
-    kinds = kinds_of(web)
-    for posts, _, _ in kinds:
+    parts = web.parts()
+    for posts in parts:
         need_waves(web, posts)
-    last = [last_owed_on(web, posts, standing_on(posts, standing)) for posts, _, _ in kinds]
+    last = [last_owed_on(web, posts, standing_on(posts, standing)) for posts in parts]
     return max([beat for beat in last if beat is not None], default=None)
 
 
@@ -74,9 +74,9 @@ def owes(standing):
 
 
 def level_standings(web, posts, weights):
-    """Standings of which no half steps, enough of them: all others of half 0 are sums of these, so often each.
+    """Standings of which no half steps, enough of them: all others of half 0 are made of these by sums and shares.
 
-    Those of half 1 are these behind a beat, and so need as many beats.
+    Those of half 1 are the like behind a beat, and so need no other beats.
     """
     by_post = {post: weight for post, weight in zip(posts, weights)}
     having, had = halves_of(web, posts)[0]

@@ -57,7 +57,8 @@ class Web:
 
 def tied_to(web, post):
     """A list of the posts that are tied to this one, rising."""
-    return [other for other in range(len(web)) if web.cords(post, other) > 0]
+    pairs = [tie[:2] for tie in web.ties()]
+    return [one for one, other in pairs if other == post] + [other for one, other in pairs if one == post]
 
 
 def part_around(web, post):

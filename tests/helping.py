@@ -3,7 +3,8 @@
 import copy
 import random
 
-from giveback.webs import Web
+from giveback.shapes import home_of
+from giveback.webs import Web, lots_of
 
 # Things that are handed in where anything may be.
 THINGS = [
@@ -234,7 +235,6 @@ def just_owing(web, draw, most):
 def level(web, chance, most, high):
     """A standing of a web of waves, one part, of which no half steps: drawn numbers about a resting one."""
     from giveback.kinds import kinds_of
-    from giveback.webs import lots_of
     posts, _, weights = kinds_of(web)[0]
     lots = lots_of(web, posts) or (posts, posts)
     one, two = drawn(chance, len(web), most), drawn(chance, len(web), most)
@@ -295,3 +295,74 @@ def slow_last(web, standing, turn):
         ahead = None if owing else run[:turn]
         standing = run[turn]
         beats += turn
+
+
+# The shapes whose case trees are told.
+TOLD = (
+    [("row", size) for size in range(1, 6)] + [("end", 2), ("end", 3), ("end", 4), ("fork", 4), ("fork", 5)]
+    + [("middle", 4), ("three", 2)]
+)
+
+
+class Looked:
+    """A small web gone by all standings that are sums of single debts that go together, by beats one by one."""
+
+    def __init__(self, web):
+        self.web = web
+        self.places = {}
+        self.half_at = {}
+        for part in web.parts():
+            lots = lots_of(web, part)
+            for beat in range(home_of(web, part)[0]):
+                for post in part:
+                    half = (beat + (post in lots[1])) % 2
+                    self.half_at[beat, post] = (tuple(part), half)
+                    self.places.setdefault((tuple(part), half), []).append((beat, post))
+        for half in [(tuple(part), half) for part in web.parts() for half in (0, 1)]:
+            self.places.setdefault(half, [])
+        self.sums = {half: self.sums_of(places) for half, places in self.places.items()}
+
+    def sums_of(self, places):
+        """(debts, what it has at each place) of each sum of single debts of a half that go together."""
+        web = self.web
+        most = max([beat for beat, _ in places], default=0)
+        rows = {}
+        for beat, post in places:
+            there = (0,) * len(web), tuple(-int(k == post) for k in range(len(web)))
+            run = slow_run(web, slow_behind(web, there, -beat), most)
+            rows[beat, post] = [run[at][1][other] for at, other in places]
+        found = [((), [0] * len(places))]
+        for place in places:
+            for debts, numbers in list(found):
+                if all(self.fit(rows[place], rows[debt]) for debt in debts):
+                    found.append((debts + (place,), [low + high for low, high in zip(numbers, rows[place])]))
+        return [(debts, dict(zip(places, numbers))) for debts, numbers in found]
+
+    def fit(self, one, other):
+        """Whether at no place the one has more than nought and the other less."""
+        return not any(low * high < 0 for low, high in zip(one, other))
+
+    def showing(self, half, sights):
+        """The lots of debts of all sums of a half that show all its sights."""
+        own = [sight for sight in sights if self.half_at[sight[:2]] == half]
+        return [debts for debts, has in self.sums[half] if all(word_of(has[sight[:2]]) == sight[2] for sight in own)]
+
+    def are_shown(self, sights):
+        """Whether some standing shows all sights."""
+        return all(self.showing(half, sights) for half in self.places)
+
+    def blamed(self, sights):
+        """The blame, straight by the words of [43]."""
+        if self.are_shown(sights):
+            return None
+        left = list(range(len(sights)))
+        for place in range(len(sights))[::-1]:
+            fewer = [k for k in left if k != place]
+            if not self.are_shown([sights[k] for k in fewer]):
+                left = fewer
+        return left
+
+
+def word_of(number):
+    """The word of what a post has."""
+    return "owes" if number < 0 else "has" if number > 0 else "nought"

@@ -32,6 +32,14 @@ INTERFACE = {
     "peaks": {"most_ever": "web standing post", "first_above": "web standing post number"},
     "far": {"standing_behind": "web standing beats"},
     "waves": {"wave_beats": "web posts", "last_owed": "web standing"},
+    "between": {"beats_between": "web one other"},
+    "debts": {
+        "debts_of": "web standing", "single": "web beat post", "standing_of": "web debts", "together": "web one other",
+    },
+    "sights": {
+        "shows_all": "web standing sights", "showing": "web sights", "first_shown": "web sights", "blame": "web sights",
+    },
+    "cases": {"cases_of": "web posts half"},
     "changes": {
         "renamed": "web order", "beside": "one other", "without": "web pairs", "alone": "web posts",
         "renamed_standing": "web standing order", "beside_standing": "one standing other more",
@@ -109,6 +117,12 @@ class TestForm(unittest.TestCase):
             free = [name for name, ahead in leads.items() if not any(other in leads for other in ahead)]
             self.assertTrue(free, leads)
             leads = {name: ahead for name, ahead in leads.items() if name not in free}
+
+    def test_imports_are_used(self):
+        for path, tree in trees():
+            bound = {name.name for node in tree.body if isinstance(node, ast.ImportFrom) for name in node.names}
+            used = {node.id for node in ast.walk(tree) if isinstance(node, ast.Name)}
+            self.assertEqual(bound - used, set(), path)
 
     def test_words_of_the_language(self):
         for path, tree in trees():

@@ -4,12 +4,16 @@ import copy
 import unittest
 
 from giveback.beats import beat_back, beat_on, run_of
+from giveback.between import beats_between
+from giveback.cases import cases_of
 from giveback.changes import alone, alone_standing, beside, beside_standing, renamed, renamed_standing, without
+from giveback.debts import debts_of, single, standing_of, together
 from giveback.far import standing_behind
 from giveback.kinds import is_kind, kinds_of, steps_of
 from giveback.peaks import first_above, most_ever
 from giveback.returning import comes_back, never_paper, shows_never
 from giveback.shapes import home_beats, home_of, shape_of
+from giveback.sights import blame, first_shown, showing, shows_all
 from giveback.waves import last_owed, wave_beats
 from giveback.webs import Web, lots_of, need_standing
 from helping import row_ties, same
@@ -18,8 +22,10 @@ TIES = row_ties([4, 0, 2, 5]) + [(1, 3, 2, 2)]
 PARTS = [0, 2, 4, 5], [1, 3]
 STANDING = ((1, 2, 3, 4, 5, 6), (-1, 2, -3, 5, 0, 7))
 ORDER = (3, 4, 0, 5, 1, 2)
+DEBTS = [(2, 5, 4), (0, 0, 1), (3, 1, 10 ** 40)]
+SIGHTS = [(2, 5, "owes"), (0, 0, "has"), (3, 1, "nought"), (0, 0, "has")]
 # What the interface names lists, by its names of the arguments.
-LISTS = ("posts", "pairs")
+LISTS = ("posts", "pairs", "debts", "sights")
 NEVER = ("step", (1, 3), (1, 1), 0)
 
 # Each function with what is handed in by the interface's names; the web of all of them is of TIES, or of its first three.
@@ -36,9 +42,17 @@ ASKED = [
     (wave_beats, {"posts": PARTS[1]}), (last_owed, {"standing": STANDING}), (renamed, {"order": ORDER}),
     (renamed_standing, {"standing": STANDING, "order": ORDER}), (without, {"pairs": [(0, 4), (1, 3), (0, 4)]}),
     (alone, {"posts": PARTS[0]}), (alone_standing, {"standing": STANDING, "posts": PARTS[1]}),
+    (beats_between, {"one": STANDING, "other": ((-1, 2, -3, 5, 0, 7), (-1, 8, 4, 0, -5, -6))}),
+    (debts_of, {"standing": STANDING}), (single, {"beat": 3, "post": 2}), (standing_of, {"debts": DEBTS}),
+    (together, {"one": STANDING, "other": STANDING}), (shows_all, {"standing": STANDING, "sights": SIGHTS}),
+    (showing, {"sights": SIGHTS}), (first_shown, {"sights": SIGHTS}), (blame, {"sights": SIGHTS}),
+    (blame, {"sights": SIGHTS + [(2, 1, "has"), (0, 0, "nought"), (2, 1, "owes")]}),
+    (cases_of, {"posts": PARTS[0], "half": 0}), (cases_of, {"posts": PARTS[0], "half": 1}),
 ]
 WAVES = [(0, 1, 2, 2), (2, 3, 2, 2), (4, 5, 1, 4)]
-OF_ALL = (home_beats, most_ever, first_above)
+OF_ALL = (
+    home_beats, most_ever, first_above, debts_of, single, standing_of, together, shows_all, showing, first_shown, blame,
+)
 
 
 def web_for(function):
