@@ -2,7 +2,7 @@
 
 from giveback.errors import NoTie
 from giveback.webs import Web, need_part, need_standing
-from giveback.wholes import is_whole
+from giveback.wholes import is_whole_row
 
 
 def renamed(web, order):
@@ -33,9 +33,7 @@ def without(web, pairs):
 def alone(web, posts):
     """The web of one part, its posts numbered from 0."""
     need_part(web, posts)
-    places = {post: place for place, post in enumerate(posts)}
-    ties = [tie for tie in web.ties() if tie[0] in places]
-    return Web(len(posts), [(places[one], places[other], there, back) for one, other, there, back in ties])
+    return among(web, posts)
 
 
 def renamed_standing(web, standing, order):
@@ -64,6 +62,13 @@ def alone_standing(web, standing, posts):
     return picked(old, posts), picked(now, posts)
 
 
+def among(web, posts):
+    """The web of some posts, rising, numbered from 0, and of the ties among them."""
+    places = {post: place for place, post in enumerate(posts)}
+    ties = [tie for tie in web.ties() if tie[0] in places and tie[1] in places]
+    return Web(len(posts), [(places[one], places[other], there, back) for one, other, there, back in ties])
+
+
 def tie_of(one, other, there, back):
     """The tie by which so many cords lead from one to other, and so many back, whichever is less."""
     if one < other:
@@ -73,9 +78,7 @@ def tie_of(one, other, there, back):
 
 def is_tied_pair(web, thing):
     """Whether thing is a pair (one, other), one less than other, that is tied."""
-    if not isinstance(thing, tuple) or len(thing) != 2 or not all([is_whole(post) for post in thing]):
-        return False
-    return thing in [(tie[0], tie[1]) for tie in web.ties()]
+    return is_whole_row(thing, 2) and thing in [(tie[0], tie[1]) for tie in web.ties()]
 
 
 def picked(numbers, places):

@@ -5,7 +5,7 @@ from giveback.errors import NoBeats, NoDebts
 from giveback.kinds import need_all
 from giveback.shapes import home_of
 from giveback.webs import lots_of, need_post, need_standing, part_around
-from giveback.wholes import is_between, is_whole
+from giveback.wholes import is_between, is_whole_row
 
 
 def debts_of(web, standing):
@@ -31,11 +31,11 @@ def single(web, beat, post):
 def standing_of(web, debts):
     """The standing that has just these debts."""
     need_all(web)
-    need_debts(web, debts)
-    standing = nought_on(web)
-    for beat, post, owed in debts:
-        standing = plus(standing, single_standing(web, beat, post), owed)
-    return standing
+    fault = debts_fault(web, debts)
+    if fault is not None:
+        one, other = fault
+        raise NoDebts(one, other)
+    return sum_of_singles(web, debts)
 
 
 def together(web, one, other):
@@ -75,6 +75,14 @@ def single_standing(web, beat, post):
     return turned_about(run_on(web, turned_about(here), beat)[-1])
 
 
+def sum_of_singles(web, debts):
+    """The sum of the standings of these debts' singles, each so often as is owed."""
+    standing = nought_on(web)
+    for beat, post, owed in debts:
+        standing = plus(standing, single_standing(web, beat, post), owed)
+    return standing
+
+
 def are_opposed(one, other):
     """Whether in two such rounds some post at some beat has more than nought in the one and less in the other."""
     for row, beside in zip(one, other):
@@ -83,15 +91,15 @@ def are_opposed(one, other):
     return False
 
 
-def need_debts(web, debts):
-    """Refuse what are no debts, and debts of which two don't go together."""
+def debts_fault(web, debts):
+    """(one, other): the places of what is wrong with debts of a web of the kind all, None where nothing is."""
     if not isinstance(debts, (list, tuple)):
-        raise NoDebts(None, None)
+        return None, None
     around = {post: part for part in web.parts() for post in part}
     beats = {post: len_of_round(web, around[post]) for post in around}
     for at, debt in enumerate(debts):
         if not is_debt(beats, debt):
-            raise NoDebts(at, None)
+            return at, None
     rounds = {}
     for beat, post, _ in debts:
         if (beat, post) not in rounds:
@@ -99,12 +107,13 @@ def need_debts(web, debts):
     for one in range(len(debts)):
         for other in range(one + 1, len(debts)):
             if not go_together(rounds, debts[one][:2], debts[other][:2]):
-                raise NoDebts(one, other)
+                return one, other
+    return None
 
 
 def is_debt(beats, thing):
     """Whether thing is a debt, of posts with so many beats in their rounds."""
-    if not isinstance(thing, tuple) or len(thing) != 3 or not all([is_whole(number) for number in thing]):
+    if not is_whole_row(thing, 3):
         return False
     beat, post, owed = thing
     return post in beats and 0 <= beat < beats[post] and owed >= 1

@@ -4,7 +4,7 @@ from math import gcd
 
 from giveback.errors import NotAll, NotWaves
 from giveback.webs import lots_of, need_part, need_standing
-from giveback.wholes import is_whole
+from giveback.wholes import is_whole_row
 
 
 def kinds_of(web):
@@ -72,9 +72,7 @@ def need_waves(web, posts):
 
 def are_weights(count, thing):
     """Whether thing is a tuple of so many whole numbers from 1 on."""
-    if not isinstance(thing, tuple) or len(thing) != count:
-        return False
-    return all([is_whole(number) and number >= 1 for number in thing])
+    return is_whole_row(thing, count) and all([number >= 1 for number in thing])
 
 
 def cord_rows(web, posts):

@@ -1,7 +1,7 @@
 """Webs of posts and cords, the parts and lots of their posts, and what may stand on them."""
 
 from giveback.errors import NoPart, NoPost, NoStanding, NoWeb
-from giveback.wholes import is_between, is_whole
+from giveback.wholes import is_between, is_whole, is_whole_row
 
 MOST_POSTS = 12
 MOST_CORDS = 9
@@ -90,17 +90,20 @@ def need_size(size):
 
 def need_ties(size, ties):
     """Refuse what is no list of ties between so many posts."""
-    if not isinstance(ties, (list, tuple)):
+    if not are_ties(size, ties):
         raise NoWeb("ties")
-    if not all([is_tie(size, tie) for tie in ties]):
-        raise NoWeb("ties")
-    if len(set([(tie[0], tie[1]) for tie in ties])) < len(ties):
-        raise NoWeb("ties")
+
+
+def are_ties(size, thing):
+    """Whether thing is a list of ties between so many posts, each two of them tied once at most."""
+    if not isinstance(thing, (list, tuple)) or not all([is_tie(size, tie) for tie in thing]):
+        return False
+    return len(set([(tie[0], tie[1]) for tie in thing])) == len(thing)
 
 
 def is_tie(size, thing):
     """Whether thing is a tie between two of so many posts."""
-    if not isinstance(thing, tuple) or len(thing) != 4 or not all([is_whole(number) for number in thing]):
+    if not is_whole_row(thing, 4):
         return False
     one, other, there, back = thing
     return 0 <= one < other < size and 1 <= there <= MOST_CORDS and 1 <= back <= MOST_CORDS
@@ -127,9 +130,22 @@ def need_part(web, posts):
 
 def need_standing(web, standing):
     """Refuse what is no standing of the web."""
-    if not isinstance(standing, tuple) or len(standing) != 2:
-        raise NoStanding("standing")
-    if not all([isinstance(row, tuple) and len(row) == len(web) for row in standing]):
-        raise NoStanding("standing")
-    if not all([is_between(number, -GREATEST, GREATEST) for row in standing for number in row]):
-        raise NoStanding("numbers")
+    fault = standing_fault(web, standing)
+    if fault is not None:
+        raise NoStanding(fault)
+
+
+def standing_fault(web, thing):
+    """What is wrong with thing as a standing of the web, standing or numbers; None where nothing is."""
+    if not isinstance(thing, tuple) or len(thing) != 2:
+        return "standing"
+    if not all([isinstance(row, tuple) and len(row) == len(web) for row in thing]):
+        return "standing"
+    if not are_bearable(thing):
+        return "numbers"
+    return None
+
+
+def are_bearable(rows):
+    """Whether all is whole numbers that may be handed in, told both rows of a standing."""
+    return all([is_between(number, -GREATEST, GREATEST) for row in rows for number in row])

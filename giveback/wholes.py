@@ -11,6 +11,11 @@ def is_between(thing, low, high):
     return is_whole(thing) and low <= thing <= high
 
 
+def is_whole_row(thing, many):
+    """Whether thing is a tuple of so many whole numbers."""
+    return isinstance(thing, tuple) and len(thing) == many and all([is_whole(number) for number in thing])
+
+
 def copied(thing):
     """Another thing just like it, so that nobody's later change of the one is seen in the other."""
     # The open holders are kept in a list, as what is handed in may lie deeper than calls may.
