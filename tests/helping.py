@@ -195,6 +195,15 @@ def seeded(number):
     return random.Random(number)
 
 
+def spoiled(told):
+    """Change every list in what was told."""
+    if isinstance(told, (list, tuple)):
+        for thing in told:
+            spoiled(thing)
+    if isinstance(told, list):
+        told.append("spoiled")
+
+
 def gap(web, posts, weights):
     """Out less twice the weight, of each of the posts, straight by the words of [20]."""
     weight = dict(zip(posts, weights))

@@ -9,7 +9,7 @@ import unittest
 
 PACKAGE = pathlib.Path(__file__).resolve().parent.parent / "giveback"
 FILES = sorted(path for path in PACKAGE.rglob("*") if path.is_file() and "__pycache__" not in path.parts)
-LIBRARY = {"math": {"gcd", "lcm"}}
+LIBRARY = {"math": {"gcd", "lcm"}, "itertools": {"combinations"}}
 BUILTINS = {
     "len", "range", "enumerate", "zip", "min", "max", "sum", "abs", "sorted", "reversed", "int", "str", "bool", "list",
     "tuple", "dict", "set", "isinstance", "any", "all", "divmod", "repr", "ValueError", "KeyError", "LookupError",
@@ -17,7 +17,7 @@ BUILTINS = {
 }
 METHODS = {
     "append", "clear", "copy", "count", "extend", "find", "get", "index", "insert", "items", "join", "keys", "pop",
-    "remove", "reverse", "setdefault", "split", "startswith", "endswith", "strip", "update", "values", "isdigit",
+    "remove", "reverse", "setdefault", "split", "startswith", "endswith", "strip", "update", "values", "isdigit", "partition",
 }
 BARRED = (
     ast.AsyncFor, ast.AsyncFunctionDef, ast.AsyncWith, ast.Await, ast.Div, ast.GeneratorExp, ast.Global, ast.Import,
@@ -39,11 +39,24 @@ INTERFACE = {
     "sights": {
         "shows_all": "web standing sights", "showing": "web sights", "first_shown": "web sights", "blame": "web sights",
     },
+    "rings": {
+        "row_web": "size", "cord_at": "size post beat", "cords_of": "size standing", "standing_by": "size cords",
+        "turned_cords": "size cords",
+    },
     "cases": {"cases_of": "web posts half"},
+    "caselooks": {"shows_cases": "web posts half thing"},
     "changes": {
         "renamed": "web order", "beside": "one other", "without": "web pairs", "alone": "web posts",
         "renamed_standing": "web standing order", "beside_standing": "one standing other more",
         "alone_standing": "web standing posts",
+    },
+    "folds": {
+        "folded": "web lots", "folded_standing": "web lots standing", "spread_standing": "web lots standing",
+    },
+    "cuts": {"fewest_cuts": "web", "cut_paper": "web", "shows_cuts": "web told thing"},
+    "texts": {
+        "show_web": "web", "show_standing": "standing", "show_debts": "debts", "show_cords": "cords",
+        "read_web": "text", "read_standing": "web text", "read_debts": "web text", "read_cords": "size text",
     },
 }
 CLASSES = {
@@ -52,6 +65,14 @@ CLASSES = {
             "__init__": "size ties", "ties": "", "cords": "one other", "parts": "", "__len__": "", "__eq__": "other",
         },
     },
+    "works": {
+        "Works": {
+            "__init__": "web", "put": "post number", "bind": "one other there back", "cut": "one other", "go": "beats",
+            "undo": "", "web": "upto", "standing": "upto", "kinds": "upto", "comes_back": "upto", "deeds": "",
+            "__len__": "",
+        },
+    },
+    "desk": {"Desk": {"__init__": "", "say": "row"}},
 }
 
 
@@ -134,16 +155,15 @@ class TestForm(unittest.TestCase):
                     self.assertEqual(node.decorator_list, [], path)
 
     def test_calls(self):
+        methods = {method.name for _, tree in trees() for method in functions(tree)}
         for path, tree in trees():
             imports = [node for node in tree.body if isinstance(node, ast.ImportFrom)]
             bound = names_of(tree) | {name.name for node in imports for name in node.names}
-            methods = {method.name for method in functions(tree)}
             for node in ast.walk(tree):
                 if isinstance(node, ast.Call) and isinstance(node.func, ast.Name):
                     self.assertTrue(node.func.id in bound or node.func.id in BUILTINS, (path, node.lineno))
                 elif isinstance(node, ast.Call):
-                    allowed = METHODS | methods | {"ties", "cords", "parts", "__init__"}
-                    self.assertIn(node.func.attr, allowed, (path, node.lineno))
+                    self.assertIn(node.func.attr, METHODS | methods, (path, node.lineno))
 
     def test_names_are_nobody_elses(self):
         for path, tree in trees():
@@ -177,7 +197,12 @@ class TestInterface(unittest.TestCase):
                 self.assertEqual(getattr(module, name).__module__, module.__name__)
                 for method, arguments in methods.items():
                     function = vars(getattr(module, name))[method]
-                    self.assertEqual(list(inspect.signature(function).parameters), ["self"] + arguments.split())
+                    told = inspect.signature(function).parameters
+                    self.assertEqual(list(told), ["self"] + arguments.split())
+                    for argument in told.values():
+                        alone = argument.name == "upto"
+                        self.assertEqual(argument.kind == inspect.Parameter.KEYWORD_ONLY, alone)
+                        self.assertEqual(argument.default is None, alone)
 
 
 if __name__ == "__main__":
