@@ -86,7 +86,8 @@ def is_cut_row(web, cuts, thing):
     if not are_some_posts(web, posts) or not are_weights(len(posts), weights):
         return False
     left = among(without(web, cuts), posts)
-    return len(left.parts()) == 1 and min(gaps_of(cord_rows(left, range(len(posts))), weights)) >= 0
+    parts = left.parts()
+    return len(parts) == 1 and min(gaps_of(cord_rows(left, parts[0]), weights)) >= 0
 
 
 def are_some_posts(web, thing):

@@ -23,6 +23,18 @@ BARRED = (
     ast.AsyncFor, ast.AsyncFunctionDef, ast.AsyncWith, ast.Await, ast.Div, ast.GeneratorExp, ast.Global, ast.Import,
     ast.Lambda, ast.MatMult, ast.Match, ast.NamedExpr, ast.Nonlocal, ast.Try, ast.With, ast.Yield, ast.YieldFrom,
 )
+WALKERS = {"list", "tuple", "sorted", "sum", "min", "max", "any", "all"}
+# What is walked on the spot, by name, and what may take it, first and alone, beside a for and a comprehension.
+WALKED = {
+    "range": WALKERS | {"dict", "enumerate", "zip", "len", "reversed"},
+    "zip": WALKERS | {"dict", "enumerate", "zip"},
+    "enumerate": WALKERS | {"dict", "enumerate", "zip"},
+    "reversed": WALKERS | {"dict", "enumerate", "zip"},
+    "items": WALKERS | {"dict", "enumerate", "zip", "len"},
+    "keys": WALKERS | {"dict", "enumerate", "zip", "len"},
+    "values": WALKERS | {"dict", "enumerate", "zip", "len"},
+    "combinations": WALKERS,
+}
 INTERFACE = {
     "webs": {"lots_of": "web posts", "need_standing": "web standing"},
     "beats": {"beat_on": "web standing", "beat_back": "web standing", "run_of": "web standing beats"},
@@ -97,6 +109,63 @@ def names_of(tree):
     return found
 
 
+def parents_of(tree):
+    """What each node of a file stands in straight."""
+    return {child: node for node in ast.walk(tree) for child in ast.iter_child_nodes(node)}
+
+
+def walked_name(node):
+    """The name of a call whose answer is to be walked on the spot, None of anything else."""
+    if isinstance(node, ast.Call):
+        name = getattr(node.func, "id", None) or getattr(node.func, "attr", None)
+        is_method = isinstance(node.func, ast.Attribute)
+        return name if name in WALKED and is_method == (name in ("items", "keys", "values")) else None
+    return None
+
+
+def is_walked_at_once(node, parent, name):
+    """Whether a node, the answer of what has this name, is walked there where it stands (L23, L2 Products)."""
+    if isinstance(parent, (ast.For, ast.comprehension)):
+        return parent.iter is node
+    if isinstance(parent, ast.Compare):
+        inside = [isinstance(sign, (ast.In, ast.NotIn)) for sign in parent.ops]
+        return name in ("range", "keys") and inside == [True] and parent.comparators == [node]
+    if not isinstance(parent, ast.Call) or not parent.args or parent.args[0] is not node:
+        return False
+    if isinstance(parent.func, ast.Attribute):
+        return parent.func.attr == "join" and isinstance(parent.func.value, ast.Constant) and name != "combinations"
+    taker = getattr(parent.func, "id", None)
+    return taker in WALKED[name] and (taker not in ("min", "max") or len(parent.args) == 1)
+
+
+def is_kept_range(node, parents, tree):
+    """Whether a range is kept under a name that its function gives it alone, and only walked, asked or measured."""
+    keeping = parents[node]
+    if not isinstance(keeping, ast.Assign) or [type(target) for target in keeping.targets] != [ast.Name]:
+        return False
+    name = keeping.targets[0].id
+    around = [function for function in functions(tree) if node in ast.walk(function)]
+    found = [other for other in ast.walk(around[0]) if isinstance(other, ast.Name) and other.id == name]
+    reads = [other for other in found if isinstance(other.ctx, ast.Load)]
+    indexed = [other for other in reads if getattr(parents[other], "value", None) is other
+               and isinstance(parents[other], ast.Subscript) and not isinstance(parents[other].slice, ast.Slice)]
+    walked = [other for other in reads if is_walked_at_once(other, parents[other], "range")]
+    return len(around) == 1 and len(found) == 1 + len(reads) and len(reads) == len(indexed) + len(walked)
+
+
+def kept_or_passed_on(text):
+    """The lines of a file's text with a range or the like that is not walked on the spot."""
+    tree = ast.parse(text)
+    parents = parents_of(tree)
+    lines = []
+    for node in ast.walk(tree):
+        name = walked_name(node)
+        if name is not None and not is_walked_at_once(node, parents[node], name):
+            if name != "range" or not is_kept_range(node, parents, tree):
+                lines.append(node.lineno)
+    return lines
+
+
 class TestForm(unittest.TestCase):
 
     def test_files(self):
@@ -164,6 +233,40 @@ class TestForm(unittest.TestCase):
                     self.assertTrue(node.func.id in bound or node.func.id in BUILTINS, (path, node.lineno))
                 elif isinstance(node, ast.Call):
                     self.assertIn(node.func.attr, METHODS | methods, (path, node.lineno))
+
+    def test_ranges_and_the_like_are_walked_on_the_spot(self):
+        for path, _ in trees():
+            self.assertEqual(kept_or_passed_on(path.read_text(encoding="utf-8")), [], path)
+
+    def test_the_look_at_ranges_and_the_like(self):
+        barred = (
+            "rows_of(range(3))", "list(zip(xs, range(3)))", "xs + range(3)", "xs == range(3)", "set(xs.values())",
+            "rows_of(xs, zip(xs, xs))", "len(zip(xs, xs))", "list(reversed(zip(xs)))", "max(0, range(3))",
+            "[xs.items()]", "rows_of(combinations(xs, 2))", "list(zip(combinations(xs, 2)))", "range(3)",
+            "xs.join(xs.values())",
+        )
+        allowed = (
+            "list(range(3))", "[x for x in range(3)]", "rows_of(list(range(3)))", "rows_of(xs)",
+            "list(zip(range(3), xs))", "3 in range(3)", "len(range(3))", "list(reversed(range(3)))",
+            "max(range(3), default=0)", "len(xs.items())", "list(combinations(xs, 2))", "dict(zip(xs, xs))",
+            "sum(xs.values())", "''.join(xs.values())",
+        )
+        for rows, wanted in ((barred, [2]), (allowed, [])):
+            for row in rows:
+                self.assertEqual(kept_or_passed_on(f"def told(xs):\n    return {row}"), wanted, row)
+
+    def test_the_look_at_kept_ranges(self):
+        barred = ("rows_of(kept)", "kept", "kept == xs", "kept[1:]", "xs[kept]")
+        allowed = ("[x for x in kept]", "len(kept)", "kept[1]", "3 in kept", "rows_of(list(kept))")
+        for rows, wanted in ((barred, [2]), (allowed, [])):
+            for row in rows:
+                text = f"def told(xs):\n    kept = range(3)\n    return {row}"
+                self.assertEqual(kept_or_passed_on(text), wanted, row)
+        barred = (
+            "kept = zip(xs, xs)", "kept = other = range(3)", "xs[0] = range(3)", "kept = range(3)\n    kept = xs",
+        )
+        for row in barred:
+            self.assertEqual(kept_or_passed_on(f"def told(xs):\n    {row}\n    return len(kept)"), [2], row)
 
     def test_names_are_nobody_elses(self):
         for path, tree in trees():
